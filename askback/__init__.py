@@ -1,0 +1,1 @@
+"""Askback: each newcomer asks elder ones as far back as the one ahead says."""

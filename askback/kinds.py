@@ -1,0 +1,27 @@
+"""Of what kind a thing is that may be anything, and copies of it."""
+
+
+def is_whole(thing):
+    """Whether it is a whole number: an int that is no truth."""
+    return isinstance(thing, int) and not isinstance(thing, bool)
+
+
+def is_whole_from(thing, least):
+    """Whether it is a whole number, the least one or more."""
+    return is_whole(thing) and thing >= least
+
+
+def is_row(thing):
+    """Whether it is a list, or a tuple in the place of one."""
+    return isinstance(thing, (list, tuple))
+
+
+def copy_of(thing):
+    """The thing itself, or, of lists, tuples and dicts, one of its own all through."""
+    if isinstance(thing, list):
+        return [copy_of(part) for part in thing]
+    if isinstance(thing, tuple):
+        return tuple([copy_of(part) for part in thing])
+    if isinstance(thing, dict):
+        return {key: copy_of(thing[key]) for key in thing}
+    return thing

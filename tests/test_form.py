@@ -1,0 +1,110 @@
+"""The form: the interface as DOC.md lists it, and the rules of LANGUAGE.md that are easily looked at."""
+
+import ast
+import builtins
+import inspect
+import pathlib
+import unittest
+
+from askback import house, often, signs
+
+PACKAGE = pathlib.Path(__file__).resolve().parent.parent / "askback"
+
+ALLOWED_BUILTINS = """len range enumerate zip min max sum abs sorted reversed int str bool list tuple dict set
+    isinstance ord repr any all divmod ValueError KeyError IndexError LookupError RuntimeError""".split()
+
+FUNCTIONS = {
+    signs: {
+        "signs_of": ["number", "base"],
+        "exponent_of": ["number", "base"],
+        "first_sign": ["number", "base"],
+        "noughts_of": ["number", "base"],
+        "heap_of": ["number", "base"],
+    },
+    often: {
+        "how_many_said": ["house", "times", "upto"],
+        "nth_said": ["house", "times", "place"],
+        "sum_upto": ["house", "place"],
+        "least_place": ["house", "total"],
+    },
+}
+
+HOUSE_METHODS = {
+    "__init__": ["self", "k", "beginning"],
+    "base": ["self"],
+    "beginning": ["self"],
+    "reach": ["self"],
+    "folk": ["self"],
+    "said": ["self", "place"],
+    "times": ["self", "number"],
+    "first_place": ["self", "number"],
+    "last_place": ["self", "number"],
+}
+
+
+def trees():
+    return [(path.name, ast.parse(path.read_text())) for path in sorted(PACKAGE.glob("*.py"))]
+
+
+class InterfaceTest(unittest.TestCase):
+    def test_functions_are_defined_where_they_are_listed(self):
+        for module, functions in FUNCTIONS.items():
+            for name, parameters in functions.items():
+                made = getattr(module, name)
+                self.assertEqual(made.__module__, module.__name__)
+                self.assertEqual(list(inspect.signature(made).parameters), parameters)
+
+    def test_house_and_its_methods(self):
+        self.assertEqual(house.House.__module__, "askback.house")
+        for name, parameters in HOUSE_METHODS.items():
+            made = vars(house.House)[name]
+            self.assertEqual(list(inspect.signature(made).parameters), parameters)
+
+
+class FormTest(unittest.TestCase):
+    def test_the_folder_holds_nothing_else(self):
+        others = [path.name for path in PACKAGE.iterdir() if path.suffix != ".py" and path.name != "__pycache__"]
+        self.assertEqual(others, [])
+        self.assertTrue((PACKAGE / "__init__.py").is_file())
+
+    def test_characters_and_lengths(self):
+        for path in PACKAGE.glob("*.py"):
+            text = path.read_text()
+            self.assertTrue(all(sign == "\n" or " " <= sign <= "~" for sign in text), path.name)
+            self.assertLessEqual(len(text.splitlines()), 399, path.name)
+            self.assertLessEqual(max([len(row) for row in text.splitlines()]), 120, path.name)
+
+    def test_functions_are_short(self):
+        for name, tree in trees():
+            for node in ast.walk(tree):
+                if isinstance(node, ast.FunctionDef):
+                    self.assertLessEqual(node.end_lineno - node.lineno + 1, 40, (name, node.name))
+                    self.assertEqual(node.decorator_list, [], (name, node.name))
+
+    def test_imports_are_from_the_package_by_full_names(self):
+        for name, tree in trees():
+            for node in ast.walk(tree):
+                self.assertNotIsInstance(node, ast.Import, name)
+                if isinstance(node, ast.ImportFrom):
+                    self.assertEqual(node.level, 0, name)
+                    self.assertTrue(node.module.startswith("askback."), name)
+
+    def test_no_floats_and_no_powers_that_a_loop_has_to_build(self):
+        for name, tree in trees():
+            for node in ast.walk(tree):
+                self.assertNotIsInstance(node, (ast.Div, ast.Pow, ast.Try, ast.Global), name)
+                if isinstance(node, ast.Constant):
+                    self.assertNotIsInstance(node.value, (float, complex), name)
+
+    def test_only_allowed_builtins_and_none_bound_anew(self):
+        for name, tree in trees():
+            for node in ast.walk(tree):
+                if isinstance(node, ast.Name) and hasattr(builtins, node.id):
+                    self.assertIsInstance(node.ctx, ast.Load, (name, node.id))
+                    self.assertIn(node.id, ALLOWED_BUILTINS, name)
+                if isinstance(node, ast.arg):
+                    self.assertFalse(hasattr(builtins, node.arg), (name, node.arg))
+
+
+if __name__ == "__main__":
+    unittest.main()
