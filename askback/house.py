@@ -108,3 +108,8 @@ class House:
     def _last_of_round(self, exponent, sign, ones):
         """The last place of sign * k ** exponent; ones is 1 + k + .. + k ** exponent."""
         return sign * ones + exponent * self.reach() + self._sums[sign]
+
+
+def house_of_sums(k, sums):
+    """The house of this k whose beginning has these sums, each number less one, of the first 0, 1, 2 .. numbers."""
+    return House(k, [sums[sign] - sums[sign - 1] + 1 for sign in range(1, k)])

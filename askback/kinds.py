@@ -25,3 +25,14 @@ def copy_of(thing):
     if isinstance(thing, dict):
         return {key: copy_of(thing[key]) for key in thing}
     return thing
+
+
+def is_same(thing, told):
+    """Whether the thing is just as told, of whole numbers, lists and tuples: a tuple may stand in a list's place."""
+    if is_whole(told):
+        return is_whole(thing) and thing == told
+    if isinstance(told, tuple) and not isinstance(thing, tuple):
+        return False
+    if not is_row(thing) or len(thing) != len(told):
+        return False
+    return all([is_same(part, part_told) for part, part_told in zip(thing, told)])

@@ -6,7 +6,7 @@ import inspect
 import pathlib
 import unittest
 
-from askback import house, often, signs
+from askback import apart, asking, house, marks, often, sightings, signs
 
 PACKAGE = pathlib.Path(__file__).resolve().parent.parent / "askback"
 
@@ -26,6 +26,35 @@ FUNCTIONS = {
         "nth_said": ["house", "times", "place"],
         "sum_upto": ["house", "place"],
         "least_place": ["house", "total"],
+    },
+    asking: {
+        "asked": ["house", "place"],
+        "leads": ["house", "place"],
+        "chain": ["house", "place"],
+        "asked_often": ["house", "place", "below"],
+        "led_from": ["house", "place", "steps"],
+        "last_with": ["house", "steps"],
+        "led_again": ["house", "place"],
+        "hanging": ["house", "place", "below"],
+        "nearest": ["house", "one", "other"],
+    },
+    marks: {
+        "mark_at": ["house", "marks", "place"],
+        "whence": ["house", "place"],
+        "mark_paper": ["house", "marks", "place"],
+        "shows_mark": ["house", "marks", "place", "paper"],
+    },
+    apart: {
+        "parts": ["one", "other"],
+        "less_at": ["one", "other"],
+        "lesser": ["one", "other"],
+        "greater": ["one", "other"],
+    },
+    sightings: {
+        "keeps": ["house", "saying"],
+        "reaches": ["k", "sayings"],
+        "least_house": ["k", "sayings", "reach"],
+        "greatest_house": ["k", "sayings", "reach"],
     },
 }
 

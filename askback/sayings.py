@@ -1,0 +1,36 @@
+"""Sayings: what they look like, and what is refused where they are handed in."""
+
+from askback.errors import BadHouse, BadSaying
+from askback.house import is_k
+from askback.kinds import is_row, is_whole_from
+
+AT_MOST = "at most"
+AT_LEAST = "at least"
+
+
+def is_saying(thing):
+    """Whether it is a saying: a tuple of words, a place and a number."""
+    if not isinstance(thing, tuple) or len(thing) != 3 or thing[0] not in (AT_MOST, AT_LEAST):
+        return False
+    return is_whole_from(thing[1], 1) and is_whole_from(thing[2], 1)
+
+
+def refuse_no_k(k):
+    """Refuse what is no k."""
+    if not is_k(k):
+        raise BadHouse("k")
+
+
+def refuse_no_saying(thing, place):
+    """Refuse what is no saying, naming this place."""
+    if not is_saying(thing):
+        raise BadSaying(place)
+
+
+def refuse_no_sayings(k, sayings):
+    """Refuse what is no k, then what is no list of sayings."""
+    refuse_no_k(k)
+    if not is_row(sayings):
+        raise BadSaying(0)
+    for place, saying in enumerate(sayings):
+        refuse_no_saying(saying, place)
