@@ -57,8 +57,7 @@ def led_from(house, place, steps):
     """The first and the last place behind the beginning whose chain is at the place behind so many steps."""
     if place == 1:
         # Of the places behind the beginning only the first one leads here.
-        first = house.folk() + 1
-        return led_from(house, first, steps - 1) if steps > 1 else (first, first)
+        return led_from(house, house.folk() + 1, steps - 1)
     first_number, last_number = numbers_behind(house, place)
     return place_led(house, place, first_number, steps), place_led(house, place, last_number, steps)
 

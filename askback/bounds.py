@@ -31,14 +31,19 @@ def bound_on(k, number, is_roof, place, at):
     return first_sign(number, k), is_roof, exponent_of(number, k), worth, at
 
 
+def in_order(bounds):
+    """The bounds by their signs, at each sign the floors ahead of the roofs."""
+    return sorted(bounds, key=lambda bound: (bound[0], bound[1]))
+
+
 def with_every(k, bounds):
-    """These bounds and those that every house keeps, by their signs, at each sign the floors ahead of the roofs."""
+    """These bounds and those that every house keeps, in order."""
     ends = [(0, False, 0, 0, None), (k - 1, False, -1, 0, None), (k - 1, True, -1, 0, None)]
-    return sorted([*ends, *bounds], key=lambda bound: (bound[0], bound[1]))
+    return in_order([*ends, *bounds])
 
 
 def bounds_of(k, sayings):
-    """The bounds of all sayings, and those that every house keeps."""
+    """The bounds of all sayings and those that every house keeps, in order."""
     return with_every(k, [bound_of(k, saying, at) for at, saying in enumerate(sayings)])
 
 
@@ -113,6 +118,26 @@ def descend(bounds):
         reach = edge_of(clash)
         clash = clash_at(bounds, reach)
     return reach, high
+
+
+def is_some_reach(bounds, reach):
+    """Whether some reach from this one on is let be."""
+    return climb(bounds, reach)[2] is None
+
+
+def span_of(bounds):
+    """The least and the greatest reach that are let be, the greatest None without end; None where none is."""
+    least, _, barred = climb(bounds, 0)
+    if barred is not None:
+        return None
+    greatest, _ = descend(bounds)
+    return least, greatest
+
+
+def places_of(clashes):
+    """The places in the list, rising, of the sayings whose bounds these clashes are of."""
+    bounds = [bound for clash in clashes if clash is not None for bound in clash]
+    return sorted({bound[4] for bound in bounds if bound[4] is not None})
 
 
 def least_sums(k, bounds, reach):

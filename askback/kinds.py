@@ -11,6 +11,13 @@ def is_whole_from(thing, least):
     return is_whole(thing) and thing >= least
 
 
+def is_word(thing):
+    """Whether it is a word of one to twelve small letters."""
+    if not isinstance(thing, str) or not 1 <= len(thing) <= 12:
+        return False
+    return all(["a" <= sign <= "z" for sign in thing])
+
+
 def is_row(thing):
     """Whether it is a list, or a tuple in the place of one."""
     return isinstance(thing, (list, tuple))

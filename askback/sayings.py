@@ -15,6 +15,16 @@ def is_saying(thing):
     return is_whole_from(thing[1], 1) and is_whole_from(thing[2], 1)
 
 
+def contrary_of(saying):
+    """What is kept just by the houses that don't keep the saying; None of one that all keep."""
+    word, place, number = saying
+    if word == AT_MOST:
+        return AT_LEAST, place, number + 1
+    if number == 1:
+        return None
+    return AT_MOST, place, number - 1
+
+
 def refuse_no_k(k):
     """Refuse what is no k."""
     if not is_k(k):

@@ -1,6 +1,6 @@
 """Sightings: which houses keep all that was said of numbers seen at places."""
 
-from askback.bounds import bounds_of, clash_at, climb, descend, greatest_sums, least_sums
+from askback.bounds import bounds_of, clash_at, greatest_sums, least_sums, span_of
 from askback.house import house_of_sums
 from askback.sayings import AT_MOST, refuse_no_saying, refuse_no_sayings
 
@@ -17,12 +17,7 @@ def keeps(house, saying):
 def reaches(k, sayings):
     """The least and the greatest reach of the houses that keep all, the greatest None without end; None without any."""
     refuse_no_sayings(k, sayings)
-    bounds = bounds_of(k, sayings)
-    least, _, barred = climb(bounds, 0)
-    if barred is not None:
-        return None
-    greatest, _ = descend(bounds)
-    return least, greatest
+    return span_of(bounds_of(k, sayings))
 
 
 def least_house(k, sayings, reach):

@@ -6,7 +6,7 @@ import inspect
 import pathlib
 import unittest
 
-from askback import apart, asking, house, marks, often, sightings, signs
+from askback import apart, asking, bars, follows, house, lore, marks, often, sightings, signs, texts
 
 PACKAGE = pathlib.Path(__file__).resolve().parent.parent / "askback"
 
@@ -56,6 +56,25 @@ FUNCTIONS = {
         "least_house": ["k", "sayings", "reach"],
         "greatest_house": ["k", "sayings", "reach"],
     },
+    bars: {
+        "bar_of": ["k", "sayings", "*reach"],
+        "shows_bar": ["k", "sayings", "thing", "*reach"],
+        "why_least": ["k", "sayings"],
+        "why_greatest": ["k", "sayings"],
+    },
+    follows: {
+        "follows": ["k", "sayings", "saying"],
+        "shows_follows": ["k", "sayings", "saying", "paper"],
+        "may_be": ["k", "sayings", "place", "*reach"],
+    },
+    texts: {
+        "show_house": ["house"],
+        "show_saying": ["saying"],
+        "show_lore": ["lore"],
+        "read_house": ["text"],
+        "read_saying": ["text"],
+        "read_lore": ["text"],
+    },
 }
 
 HOUSE_METHODS = {
@@ -70,6 +89,34 @@ HOUSE_METHODS = {
     "last_place": ["self", "number"],
 }
 
+LORE_METHODS = {
+    "__init__": ["self", "k"],
+    "__len__": ["self"],
+    "sees": ["self", "moment", "teller", "saying"],
+    "leaves": ["self", "moment", "teller"],
+    "trusts": ["self", "moment", "teller"],
+    "drop": ["self", "moment"],
+    "entries": ["self", "*upto"],
+    "base": ["self"],
+    "sayings": ["self", "*upto"],
+    "reaches": ["self", "*upto"],
+    "house": ["self", "reach", "*upto"],
+    "may_be": ["self", "place", "*upto"],
+    "barred_by": ["self", "*upto"],
+    "turns": ["self"],
+    "freed_by": ["self", "*upto"],
+}
+
+
+def parameters_of(made):
+    """Its parameters; those handed in by their names alone, None where left out, with a star ahead."""
+    told = []
+    for name, parameter in inspect.signature(made).parameters.items():
+        by_name = parameter.kind is inspect.Parameter.KEYWORD_ONLY and parameter.default is None
+        plain = parameter.kind is inspect.Parameter.POSITIONAL_OR_KEYWORD and parameter.default is parameter.empty
+        told.append("*" + name if by_name else name if plain else None)
+    return told
+
 
 def trees():
     return [(path.name, ast.parse(path.read_text())) for path in sorted(PACKAGE.glob("*.py"))]
@@ -81,13 +128,13 @@ class InterfaceTest(unittest.TestCase):
             for name, parameters in functions.items():
                 made = getattr(module, name)
                 self.assertEqual(made.__module__, module.__name__)
-                self.assertEqual(list(inspect.signature(made).parameters), parameters)
+                self.assertEqual(parameters_of(made), parameters)
 
-    def test_house_and_its_methods(self):
-        self.assertEqual(house.House.__module__, "askback.house")
-        for name, parameters in HOUSE_METHODS.items():
-            made = vars(house.House)[name]
-            self.assertEqual(list(inspect.signature(made).parameters), parameters)
+    def test_classes_and_their_methods(self):
+        for module, made, methods in ((house, house.House, HOUSE_METHODS), (lore, lore.Lore, LORE_METHODS)):
+            self.assertEqual(made.__module__, module.__name__)
+            for name, parameters in methods.items():
+                self.assertEqual(parameters_of(vars(made)[name]), parameters)
 
 
 class FormTest(unittest.TestCase):

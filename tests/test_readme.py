@@ -19,7 +19,7 @@ class ReadmeTest(unittest.TestCase):
             else:
                 self.assertEqual(eval(code, known), eval(worth.group(1)), row)
                 asked += 1
-        self.assertGreaterEqual(asked, 25)
+        self.assertGreaterEqual(asked, 45)
 
 
 if __name__ == "__main__":
