@@ -21,18 +21,34 @@ def leads(house, place):
 
 def chain(house, place):
     """The place, and behind each that is behind the beginning where it leads."""
-    base, folk, reach = house.base(), house.folk(), house.reach()
-    places = [place]
-    number, is_first = number_at(house, place)
+    return [row[0] for row in told_chain(house, place)]
+
+
+def told_chain(house, place):
+    """The chain of the place, each place of it with what is said there, and whether it is the first that says it."""
+    folk, reach = house.folk(), house.reach()
+    number = house.said(place)
+    ahead = place - house.first_place(number)
+    rows = [(place, number, ahead == 0)]
     while place > folk:
         place += 1 - reach - number
-        places.append(place)
-        # The first one of a number leads to a first one, so no place has to be looked for from there on.
-        if is_first:
-            number = (number + base - 1) // base
-        else:
-            number, is_first = number_at(house, place)
-    return places
+        number, ahead = said_where_led(house, number, ahead)
+        rows.append((place, number, ahead == 0))
+    return rows
+
+
+def said_where_led(house, number, ahead):
+    """What is said where the one leads who says the number behind so many others, and how many say it ahead there.
+
+    So no place of a chain has to be looked for.
+    """
+    base = house.base()
+    if ahead == 0:
+        return (number + base - 1) // base, 0
+    # Whoever isn't the first says a number that k divides; what is left of it is said one time less.
+    if ahead == house.times(number) - 1:
+        return number // base + 1, 0
+    return number // base, ahead
 
 
 def number_at(house, place):

@@ -125,6 +125,11 @@ def is_some_reach(bounds, reach):
     return climb(bounds, reach)[2] is None
 
 
+def is_some_house(k, bounds):
+    """Whether some house of this k keeps these bounds."""
+    return is_some_reach(with_every(k, bounds), 0)
+
+
 def span_of(bounds):
     """The least and the greatest reach that are let be, the greatest None without end; None where none is."""
     least, _, barred = climb(bounds, 0)

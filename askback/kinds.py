@@ -23,6 +23,11 @@ def is_row(thing):
     return isinstance(thing, (list, tuple))
 
 
+def are_whole(thing, many):
+    """Whether it is a list of so many whole numbers."""
+    return is_row(thing) and len(thing) == many and all([is_whole(part) for part in thing])
+
+
 def copy_of(thing):
     """The thing itself, or, of lists, tuples and dicts, one of its own all through."""
     if isinstance(thing, list):
@@ -35,7 +40,9 @@ def copy_of(thing):
 
 
 def is_same(thing, told):
-    """Whether the thing is just as told, of whole numbers, lists and tuples: a tuple may stand in a list's place."""
+    """Whether it is just as told, of whole numbers, truths, lists and tuples: a tuple may stand in a list's place."""
+    if isinstance(told, bool):
+        return isinstance(thing, bool) and thing == told
     if is_whole(told):
         return is_whole(thing) and thing == told
     if isinstance(told, tuple) and not isinstance(thing, tuple):

@@ -1,7 +1,7 @@
 """A lore: what tellers sighted at moments, and which of it counts."""
 
 from askback.bars import bar_of
-from askback.bounds import bound_of, bounds_of, is_some_reach, span_of, with_every
+from askback.bounds import bound_of, bounds_of, is_some_house, span_of
 from askback.errors import BadMoment, BadTeller, NoEntry, SameMoment
 from askback.follows import said_between
 from askback.kinds import is_whole_from, is_word
@@ -88,7 +88,7 @@ class Lore:
         is_some = True
         for many, entry in enumerate(entries, start=1):
             counting = counted(entries[:many])
-            if self._is_some_house([bounds[moment] for moment, _, _ in counting]) != is_some:
+            if is_some_house(self._k, [bounds[moment] for moment, _, _ in counting]) != is_some:
                 is_some = not is_some
                 found.append((entry[0], is_some))
         return found
@@ -97,11 +97,11 @@ class Lore:
         """The tellers, rising, without each of whom some house keeps all; None where some keeps all that count."""
         counting = counted(self.entries(upto=upto))
         bounds = self._bounds(counting)
-        if self._is_some_house(list(bounds.values())):
+        if is_some_house(self._k, list(bounds.values())):
             return None
         freeing = []
         for left in sorted({teller for _, teller, _ in counting}):
-            if self._is_some_house([bounds[moment] for moment, teller, _ in counting if teller != left]):
+            if is_some_house(self._k, [bounds[moment] for moment, teller, _ in counting if teller != left]):
                 freeing.append(left)
         return freeing
 
@@ -114,10 +114,6 @@ class Lore:
     def _bounds(self, entries):
         """The bound of each saying, by its moment, so that it is found once however often it is looked at."""
         return {moment: bound_of(self._k, what, None) for moment, _, what in entries if is_sight(what)}
-
-    def _is_some_house(self, bounds):
-        """Whether some house keeps the bounds."""
-        return is_some_reach(with_every(self._k, bounds), 0)
 
 
 def counted(entries):

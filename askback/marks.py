@@ -11,18 +11,25 @@ def mark_at(house, marks, place):
 
 def whence(house, place):
     """How many ways of asking, again and again, end on each number of the beginning, as (number, ways), rising."""
+    _, ways = signed_ways(house, place)
+    return [(ended, many) for ended, many in enumerate(ways, start=1) if many > 0]
+
+
+def signed_ways(house, place):
+    """The first sign of what is said at the place, and how many ways end on each number of the beginning."""
     base = house.base()
     number = house.said(place)
     sign = first_sign(number, base)
     power = power_of(base, exponent_of(number, base))
     rest = number - sign * power
-    ways = {sign: power - rest}
+    ways = [0] * (base - 1)
+    ways[sign - 1] = power - rest
     if sign < base - 1:
-        ways[sign + 1] = rest
+        ways[sign] = rest
     else:
         # Behind the last number of the beginning comes k times its first one; where k is 2 that is the same one.
-        ways[1] = ways.get(1, 0) + base * rest
-    return [(ended, ways[ended]) for ended in sorted(ways) if ways[ended] > 0]
+        ways[0] += base * rest
+    return sign, ways
 
 
 def mark_paper(house, marks, place):

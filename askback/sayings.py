@@ -40,6 +40,11 @@ def refuse_no_saying(thing, place):
 def refuse_no_sayings(k, sayings):
     """Refuse what is no k, then what is no list of sayings."""
     refuse_no_k(k)
+    refuse_no_list(sayings)
+
+
+def refuse_no_list(sayings):
+    """Refuse what is no list of sayings."""
     if not is_row(sayings):
         raise BadSaying(0)
     for place, saying in enumerate(sayings):

@@ -6,9 +6,32 @@ import inspect
 import pathlib
 import unittest
 
-from askback import apart, asking, bars, follows, house, lore, marks, often, sightings, signs, texts
+from askback import (
+    apart,
+    asking,
+    bars,
+    cores,
+    counted,
+    desk,
+    fitting,
+    follows,
+    house,
+    lore,
+    marks,
+    meets,
+    mending,
+    often,
+    papers,
+    sightings,
+    signs,
+    texts,
+    which,
+)
 
 PACKAGE = pathlib.Path(__file__).resolve().parent.parent / "askback"
+
+# What may be imported besides, by its bare name.
+LIBRARY = {"math": ["gcd", "comb"], "heapq": ["heappush", "heappop"]}
 
 ALLOWED_BUILTINS = """len range enumerate zip min max sum abs sorted reversed int str bool list tuple dict set
     isinstance ord repr any all divmod ValueError KeyError IndexError LookupError RuntimeError""".split()
@@ -67,6 +90,38 @@ FUNCTIONS = {
         "shows_follows": ["k", "sayings", "saying", "paper"],
         "may_be": ["k", "sayings", "place", "*reach"],
     },
+    papers: {
+        "paper_of": ["house", "place"],
+        "shows_paper": ["house", "place", "paper"],
+    },
+    fitting: {
+        "marks_by": ["house", "told"],
+        "shows_marks": ["house", "told", "thing"],
+    },
+    meets: {
+        "same_many": ["one", "other", "below", "*by"],
+        "more_many": ["one", "other", "below", "*by"],
+        "same_nth": ["one", "other", "place", "*by"],
+        "same_from": ["one", "other", "place", "*by"],
+        "same_last": ["one", "other", "*by"],
+    },
+    counted: {
+        "how_many": ["k", "sayings", "reach"],
+        "nth_house": ["k", "sayings", "reach", "place"],
+    },
+    which: {
+        "which": ["sayings", "most"],
+        "blame": ["k", "sayings"],
+    },
+    cores: {
+        "core": ["k", "sayings"],
+        "pins": ["house"],
+    },
+    mending: {
+        "mend": ["k", "sayings", "reach", "*prices"],
+        "shows_mend": ["k", "sayings", "reach", "thing", "*prices"],
+        "least_mend": ["k", "sayings", "*prices"],
+    },
     texts: {
         "show_house": ["house"],
         "show_saying": ["saying"],
@@ -89,6 +144,11 @@ HOUSE_METHODS = {
     "last_place": ["self", "number"],
 }
 
+DESK_METHODS = {
+    "__init__": ["self"],
+    "say": ["self", "row"],
+}
+
 LORE_METHODS = {
     "__init__": ["self", "k"],
     "__len__": ["self"],
@@ -109,10 +169,11 @@ LORE_METHODS = {
 
 
 def parameters_of(made):
-    """Its parameters; those handed in by their names alone, None where left out, with a star ahead."""
+    """Its parameters; those handed in by their names alone, None or 0 where left out, with a star ahead."""
     told = []
     for name, parameter in inspect.signature(made).parameters.items():
-        by_name = parameter.kind is inspect.Parameter.KEYWORD_ONLY and parameter.default is None
+        left_out = 0 if name == "by" else None
+        by_name = parameter.kind is inspect.Parameter.KEYWORD_ONLY and parameter.default == left_out
         plain = parameter.kind is inspect.Parameter.POSITIONAL_OR_KEYWORD and parameter.default is parameter.empty
         told.append("*" + name if by_name else name if plain else None)
     return told
@@ -131,7 +192,8 @@ class InterfaceTest(unittest.TestCase):
                 self.assertEqual(parameters_of(made), parameters)
 
     def test_classes_and_their_methods(self):
-        for module, made, methods in ((house, house.House, HOUSE_METHODS), (lore, lore.Lore, LORE_METHODS)):
+        for module, made, methods in ((house, house.House, HOUSE_METHODS), (lore, lore.Lore, LORE_METHODS),
+                                      (desk, desk.Desk, DESK_METHODS)):
             self.assertEqual(made.__module__, module.__name__)
             for name, parameters in methods.items():
                 self.assertEqual(parameters_of(vars(made)[name]), parameters)
@@ -163,7 +225,35 @@ class FormTest(unittest.TestCase):
                 self.assertNotIsInstance(node, ast.Import, name)
                 if isinstance(node, ast.ImportFrom):
                     self.assertEqual(node.level, 0, name)
-                    self.assertTrue(node.module.startswith("askback."), name)
+                    allowed = LIBRARY.get(node.module, [])
+                    for alias in node.names:
+                        self.assertTrue(node.module.startswith("askback.") or alias.name in allowed, name)
+                        self.assertIsNone(alias.asname, name)
+
+    def test_what_is_imported_is_defined_there_and_no_two_files_import_from_each_other(self):
+        imports = {}
+        for name, tree in trees():
+            found = [node for node in tree.body if isinstance(node, ast.ImportFrom) and node.module not in LIBRARY]
+            imports[name] = [node.module.split(".")[1] + ".py" for node in found]
+            for node in found:
+                there = ast.parse((PACKAGE / (node.module.split(".")[1] + ".py")).read_text())
+                bound = [one.name for one in there.body if isinstance(one, (ast.FunctionDef, ast.ClassDef))]
+                bound += [one.targets[0].id for one in there.body if isinstance(one, ast.Assign)]
+                self.assertTrue({alias.name for alias in node.names} <= set(bound), (name, node.module))
+        while imports:
+            free = [name for name, others in imports.items() if not set(others) & set(imports)]
+            self.assertTrue(free, imports)
+            imports = {name: others for name, others in imports.items() if name not in free}
+
+    def test_no_local_name_is_that_of_an_import_or_a_class(self):
+        for name, tree in trees():
+            taken = {alias.name for node in ast.walk(tree) if isinstance(node, ast.ImportFrom) for alias in node.names}
+            taken |= {node.name for node in tree.body if isinstance(node, (ast.ClassDef, ast.FunctionDef))}
+            for node in ast.walk(tree):
+                if isinstance(node, ast.Name) and isinstance(node.ctx, ast.Store):
+                    self.assertNotIn(node.id, taken, name)
+                if isinstance(node, ast.arg):
+                    self.assertNotIn(node.arg, taken, name)
 
     def test_no_floats_and_no_powers_that_a_loop_has_to_build(self):
         for name, tree in trees():

@@ -13,13 +13,13 @@ class ReadmeTest(unittest.TestCase):
         known, asked = {}, 0
         for row in rows:
             code, _, told = row.partition("#")
-            worth = re.match(r" (\[.*\]|\(.*\)|True|False|\d+(, \d+)*)(:|$)", told)
+            worth = re.match(r" (\[.*\]|\(.*\)|\".*\"|True|False|\d+(, \d+)*)(:|$)", told)
             if worth is None:
                 exec(code, known)
             else:
                 self.assertEqual(eval(code, known), eval(worth.group(1)), row)
                 asked += 1
-        self.assertGreaterEqual(asked, 45)
+        self.assertGreaterEqual(asked, 65)
 
 
 if __name__ == "__main__":
