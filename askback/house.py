@@ -2,7 +2,7 @@
 
 from askback.errors import BadHouse
 from askback.kinds import is_row, is_whole, is_whole_from
-from askback.signs import exponent_of, first_sign, heap_of, noughts_of
+from askback.signs import exponent_of, first_of, heap_of, noughts_of, power_of
 
 GREATEST_K = 30
 
@@ -65,9 +65,10 @@ class House:
     def times(self, number):
         """How many times the number is said."""
         noughts = noughts_of(number, self._k)
+        exponent, sign = first_of(number, self._k)
         # Only a first sign with nothing but noughts behind it comes from the beginning.
-        if noughts == exponent_of(number, self._k):
-            return noughts + self._beginning[first_sign(number, self._k) - 1]
+        if noughts == exponent:
+            return noughts + self._beginning[sign - 1]
         return noughts + 1
 
     def first_place(self, number):
@@ -76,9 +77,8 @@ class House:
 
     def last_place(self, number):
         """The last place where the number is said; 0 of 0."""
-        exponent = exponent_of(number, self._k)
-        ahead = exponent * self.reach() + self._sums[first_sign(number, self._k)]
-        return number + heap_of(number, self._k) + ahead
+        exponent, sign = first_of(number, self._k)
+        return number + heap_of(number, self._k) + exponent * self.reach() + self._sums[sign]
 
     def _said_out(self, place):
         """The greatest number whose last place is at most this place, 0 where none is."""
@@ -95,11 +95,14 @@ class House:
 
     def _first_round(self, place):
         """The exponent and the first sign of what is said out, and the ones that go with the exponent."""
-        exponent = 0
-        ones = 1
-        while self._last_of_round(exponent + 1, 1, ones * self._k + 1) <= place:
-            exponent += 1
-            ones = ones * self._k + 1
+        # Each number and its exponent times reach are at most its last place: so few exponents have to be tried.
+        exponent = exponent_of(place, self._k)
+        if self.reach() > 0:
+            exponent = min(exponent, max(0, place // self.reach()))
+        ones = (power_of(self._k, exponent + 1) - 1) // (self._k - 1)
+        while exponent > 0 and self._last_of_round(exponent, 1, ones) > place:
+            exponent -= 1
+            ones = ones // self._k
         sign = 0
         while sign < self._k - 1 and self._last_of_round(exponent, sign + 1, ones) <= place:
             sign += 1

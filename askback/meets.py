@@ -3,12 +3,14 @@
 Numbers of one exponent and first sign are a round. Within a round, behind its
 first number, the other house says each number just as much later or earlier
 than the first one, and the gap rises by even steps from exponent to exponent.
-So whoever says a number at least as often as the gap is wide, and once more,
-meets there, and how many do is counted by how often k divides the numbers.
+So whoever says a number more often than the gap is wide meets there.
 """
 
 from askback.apart import pairs_of_sums
-from askback.signs import exponent_of, first_sign, heap_of, power_of
+from askback.house import House
+from askback.lines import above_nought
+from askback.rounds import Rounds
+from askback.signs import exponent_of, first_of, noughts_of, power_of
 
 # Nothing is looked for at a place that has more figures.
 FIGURES = 200
@@ -21,8 +23,7 @@ class Pair:
         self.gaps = [other_sum - one_sum - by for one_sum, other_sum in pairs_of_sums(one, other)]
         self.rise = other.reach() - one.reach()
         self.one = one
-        self.other = other
-        self.by = by
+        self.k = one.base()
         self.many = one.beginning()
 
     def gap(self, exponent, sign):
@@ -31,20 +32,39 @@ class Pair:
 
     def meeting(self, number):
         """The first and the last place that meets saying the number, the last one less where none does."""
-        first = max(self.one.last_place(number - 1), self.other.last_place(number - 1) - self.by) + 1
-        last = min(self.one.last_place(number), self.other.last_place(number) - self.by)
-        return first, last
+        exponent, sign = first_of(number, self.k)
+        rest = number - sign * power_of(self.k, exponent)
+        gap = self.gap(exponent, sign)
+        if rest > 0:
+            gap_ahead = gap
+            times = noughts_of(rest, self.k) + 1
+        else:
+            gap_ahead = self.gap(exponent, sign - 1)
+            times = exponent + self.many[sign - 1]
+        last = self.one.last_place(number)
+        return last - times + max(0, gap_ahead) + 1, last + min(0, gap)
 
-    def met_first(self, exponent, sign):
-        """How many places meet saying the first number of the round."""
-        times = exponent + self.many[sign - 1]
-        first = max(0, self.gap(exponent, sign - 1))
-        last = min(times, times + self.gap(exponent, sign))
-        return max(0, last - first)
+    def met(self, signs):
+        """The count of the places that meet, of the first signs up to so many."""
+        return Rounds(self.k, [(self.met_firsts(sign), self.met_others(sign)) for sign in range(1, signs + 1)])
 
-    def more_first(self, exponent, sign):
-        """At how many places that say the first number of the round the other house says less."""
-        return max(0, min(exponent + self.many[sign - 1], self.gap(exponent, sign - 1)))
+    def met_firsts(self, sign):
+        """Lines over the exponents, the least of them is how many places meet that say a round's first number."""
+        many, ahead, gap = self.many[sign - 1], self.gaps[sign - 1], self.gaps[sign]
+        return [(1 - self.rise, many - ahead), (1 + self.rise, many + gap), (1, many + min(0, gap - ahead))]
+
+    def met_others(self, sign):
+        """Lines over the exponents, the least of them is the exponent less how wide the gap is."""
+        gap = self.gaps[sign]
+        return [(1 - self.rise, -gap), (1 + self.rise, gap)]
+
+    def no_more(self, signs):
+        """The count of the places where the first house says no more than the other one, of so many first signs."""
+        rows = []
+        for sign in range(1, signs + 1):
+            many, ahead, gap = self.many[sign - 1], self.gaps[sign - 1], self.gaps[sign]
+            rows.append(([(1 - self.rise, many - ahead), (1, many)], [(1 - self.rise, -gap), (1, 0)]))
+        return Rounds(self.k, rows)
 
 
 def same_many(one, other, below, *, by=0):
@@ -54,9 +74,8 @@ def same_many(one, other, below, *, by=0):
         return 0
     number = one.said(below - 1)
     first, last = pair.meeting(number)
-    shares, rounds = rounds_upto(one.base(), number - 1)
-    met = sum([met_in_round(pair, shares, turn) for turn in rounds])
-    return met + max(0, min(last, below - 1) - first + 1)
+    rounds = pair.met(min(number, pair.k - 1))
+    return rounds.of_ahead(number) + max(0, min(last, below - 1) - first + 1)
 
 
 def more_many(one, other, below, *, by=0):
@@ -65,30 +84,76 @@ def more_many(one, other, below, *, by=0):
     if below <= 1:
         return 0
     number = one.said(below - 1)
-    ahead = one.last_place(number - 1)
-    last = min(below - 1, other.last_place(number - 1) - by)
-    shares, rounds = rounds_upto(one.base(), number - 1)
-    return sum([more_in_round(pair, shares, turn) for turn in rounds]) + max(0, last - ahead)
+    first, _ = pair.meeting(number)
+    rounds = pair.no_more(min(number, pair.k - 1))
+    # Of those that say the number, the ones from there on don't say more.
+    return below - 1 - rounds.of_ahead(number) - max(0, below - first)
 
 
 def same_nth(one, other, place, *, by=0):
     """The j-th place that meets, from 0 on; None where it isn't below the end of all that is looked for."""
     pair = Pair(one, other, by)
     end = power_of(10, FIGURES)
-    shares, rounds = rounds_upto(one.base(), one.said(end - 1))
-    left = place
-    for turn in rounds:
-        met = met_in_round(pair, shares, turn)
-        if left < met:
-            found = nth_in_round(pair, turn[0], turn[1], left)
-            return found if found < end else None
-        left -= met
-    return None
+    rounds = pair.met(pair.k - 1)
+    there = rounds.exponent_of_nth(place, exponent_of(end, pair.k) + 1)
+    if there is None:
+        return None
+    exponent, left = there
+    counts = rounds.of_rounds(exponent, pair.k - 1)
+    sign = 1
+    while left >= counts[sign - 1]:
+        left -= counts[sign - 1]
+        sign += 1
+    found = nth_in_round(pair, rounds, exponent, sign, left)
+    return found if found < end else None
+
+
+def nth_in_round(pair, rounds, exponent, sign, place):
+    """The j-th place of the round that meets; there is one."""
+    first = sign * power_of(pair.k, exponent)
+    left = place - rounds.of_first(exponent, sign)
+    if left < 0:
+        return pair.meeting(first)[0] + place
+    # The others that meet do so as often as 1, 2, 3 .. are said in a house of no reach.
+    plain = House(pair.k, [1] * (pair.k - 1))
+    nth = plain.said(left + 1)
+    number = first + nth * power_of(pair.k, rounds.but(exponent, sign))
+    return pair.meeting(number)[0] + left - plain.last_place(nth - 1)
 
 
 def same_from(one, other, place, *, by=0):
     """The least place that meets, from this one on; None where it isn't below the end of all that is looked for."""
-    return same_nth(one, other, same_many(one, other, place, by=by), by=by)
+    pair = Pair(one, other, by)
+    end = power_of(10, FIGURES)
+    if place >= end:
+        return None
+    number = one.said(place)
+    first, last = pair.meeting(number)
+    if max(first, place) <= last:
+        return max(first, place)
+    number = next_met(pair, number, exponent_of(end, pair.k))
+    if number is None:
+        return None
+    found = pair.meeting(number)[0]
+    return found if found < end else None
+
+
+def next_met(pair, number, greatest):
+    """The least number behind this one that is said where the houses meet; None where its exponent is greater."""
+    exponent, sign = first_of(number, pair.k)
+    wide = abs(pair.gap(exponent, sign))
+    if wide < exponent:
+        # Further on in the round those meet that k divides so often; so does the first number of the round behind.
+        step = power_of(pair.k, wide)
+        return (number // step + 1) * step
+    turns = []
+    for later in range(1, pair.k):
+        least = exponent if later > sign else exponent + 1
+        first, last = above_nought(pair.met_firsts(later))
+        if last is None or max(first, least) <= last:
+            turns.append((max(first, least), later))
+    exponent, sign = min(turns, default=(greatest + 1, 1))
+    return sign * power_of(pair.k, exponent) if exponent <= greatest else None
 
 
 def same_last(one, other, *, by=0):
@@ -98,109 +163,11 @@ def same_last(one, other, *, by=0):
     """
     pair = Pair(one, other, by)
     last = (0, 0)
-    for sign in range(1, one.base()):
-        many = signs_of_last(pair, sign)
-        if many is None:
+    for sign in range(1, pair.k):
+        # Where any number of a round meets, its first one does.
+        least, most = above_nought(pair.met_firsts(sign))
+        if most is None:
             return None
-        if many > 0:
-            last = max(last, (many, sign))
+        if least <= most:
+            last = max(last, (most + 1, sign))
     return last
-
-
-def signs_of_last(pair, sign):
-    """How many signs the greatest number with this first one has that is said where the houses meet.
-
-    None where there is no greatest, 0 where there is none. Where any number of
-    a round is met, its first number is; that one is where the exponent times
-    each slope is at least the worth beside it.
-    """
-    many = pair.many[sign - 1]
-    rows = [(1 - pair.rise, 1 - many + pair.gaps[sign - 1]), (1 + pair.rise, 1 - many - pair.gaps[sign])]
-    least, most = 0, None
-    for slope, worth in rows:
-        if slope > 0:
-            least = max(least, -(-worth // slope))
-        elif slope < 0:
-            # The slopes come to 2 together, so one of them at most falls.
-            most = -worth // -slope
-        elif worth > 0:
-            return 0
-    if most is None:
-        return None
-    return most + 1 if most >= least else 0
-
-
-def rounds_upto(base, number):
-    """What their shares are, and (exponent, sign, last) of each round up to the number.
-
-    Last is the number itself in its own round, else None.
-    """
-    greatest, last_sign = exponent_of(number, base), first_sign(number, base)
-    shares = shares_of(base, greatest)
-    if number == 0:
-        return shares, []
-    whole = [(exponent, sign, None) for exponent in range(greatest) for sign in range(1, base)]
-    begun = [(greatest, sign, None) for sign in range(1, last_sign)]
-    return shares, [*whole, *begun, (greatest, last_sign, number)]
-
-
-def met_in_round(pair, shares, turn):
-    """How many places of the round meet."""
-    exponent, sign, last = turn
-    wide = abs(pair.gap(exponent, sign))
-    return pair.met_first(exponent, sign) + said_behind(pair.one.base(), exponent, wide, last, shares)
-
-
-def more_in_round(pair, shares, turn):
-    """How many places of the round say more than the other house."""
-    exponent, sign, last = turn
-    base = pair.one.base()
-    gap = max(0, pair.gap(exponent, sign))
-    # Each number is said as often later as the gap is wide, if it is said so often.
-    all_said = said_behind(base, exponent, 0, last, shares)
-    return pair.more_first(exponent, sign) + all_said - said_behind(base, exponent, gap, last, shares)
-
-
-def shares_of(base, exponent):
-    """Of 0, 1, 2 .. up to the exponent: how often all numbers less than the base to it are said, from 1 on."""
-    shares = [0]
-    power = base
-    for _ in range(exponent):
-        shares.append(shares[-1] + power - 1)
-        power = power * base
-    return shares
-
-
-def said_behind(base, exponent, but, last, shares):
-    """How often all numbers of a round behind its first one are said, but for so many times each.
-
-    Up to the last one told, or all where none is.
-    """
-    if last is None:
-        return shares[max(0, exponent - but)]
-    # At most so often does k divide any of them.
-    if but > exponent:
-        return 0
-    power = power_of(base, exponent)
-    rest = (last - last // power * power) // power_of(base, but)
-    return rest + heap_of(rest, base)
-
-
-def nth_in_round(pair, exponent, sign, place):
-    """The j-th place of the round that meets; there is one."""
-    base = pair.one.base()
-    power = power_of(base, exponent)
-    left = place - pair.met_first(exponent, sign)
-    first = sign * power
-    if left < 0:
-        return pair.meeting(first)[0] + place
-    wide = abs(pair.gap(exponent, sign))
-    # The number is halved for among all behind the first one.
-    least, most = first + 1, first + power - 1
-    while least < most:
-        middle = (least + most) // 2
-        if said_behind(base, exponent, wide, middle, None) > left:
-            most = middle
-        else:
-            least = middle + 1
-    return pair.meeting(least)[0] + left - said_behind(base, exponent, wide, least - 1, None)

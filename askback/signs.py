@@ -1,5 +1,8 @@
 """Numbers by their signs, by a base."""
 
+# Numbers from here on, 10 to the 18, are divided by great powers, not sign by sign.
+GREAT = 1000000000000000000
+
 
 def signs_of(number, base):
     """The signs of the number, the greatest place first; none of 0."""
@@ -12,18 +15,37 @@ def signs_of(number, base):
 
 def exponent_of(number, base):
     """How many signs stand behind the first one."""
-    exponent = 0
-    while number >= base:
-        number = number // base
-        exponent += 1
-    return exponent
+    return first_of(number, base)[0]
 
 
 def first_sign(number, base):
     """The first of its signs."""
+    return first_of(number, base)[1]
+
+
+def first_of(number, base):
+    """How many signs stand behind the first one, and that one."""
+    if number >= GREAT:
+        return first_of_great(number, base)
+    exponent = 0
     while number >= base:
         number = number // base
-    return number
+        exponent += 1
+    return exponent, number
+
+
+def first_of_great(number, base):
+    """The same, by squares of squares of the base, the greatest one first."""
+    squares = [base]
+    while squares[-1] <= number:
+        squares.append(squares[-1] * squares[-1])
+    exponent = 0
+    for square in squares[-2::-1]:
+        exponent = 2 * exponent
+        if square <= number:
+            number = number // square
+            exponent += 1
+    return exponent, number
 
 
 def noughts_of(number, base):
@@ -47,6 +69,10 @@ def heap_of(number, base):
 def power_of(base, exponent):
     """The base to the exponent, from 0 on."""
     power = 1
-    for _ in range(exponent):
-        power = power * base
+    square = base
+    while exponent > 0:
+        if exponent % 2 == 1:
+            power = power * square
+        square = square * square
+        exponent = exponent // 2
     return power

@@ -152,6 +152,20 @@ class SaidTest(unittest.TestCase):
                 if first > 1:
                     self.assertEqual(house.said(first - 1), number - 1)
 
+    def test_where_rounds_begin_of_reaches_of_each_greatness(self):
+        for k in (2, 3, 10, 30):
+            for figures in (0, 1, 2, 5, 20, 60, 120, 197, 199):
+                beginning = [1] * (k - 1)
+                beginning[figures % (k - 1)] = 10 ** figures
+                house = House(k, beginning)
+                for exponent in (0, 1, 2, 3, 10, 40, 131, 300, 660):
+                    for number in (k ** exponent, (k - 1) * k ** exponent):
+                        first, last = house.first_place(number), house.last_place(number)
+                        told = [house.said(place) for place in (first, last, last + 1)]
+                        self.assertEqual(told, [number, number, number + 1])
+                        if number > 1:
+                            self.assertEqual(house.said(first - 1), number - 1)
+
     def test_far_times_by_how_often_k_divides(self):
         for house in great_houses():
             k = house.base()

@@ -1,6 +1,7 @@
 """Where two houses meet ([20], and what [2], [3], [4] say of it)."""
 
 import random
+import sys
 import unittest
 
 from askback.errors import OtherK
@@ -22,6 +23,28 @@ PAIRS = [
 ]
 
 MOVES = [0, 1, 2, 3, 5, 8, 21, 60]
+
+
+# The asks that were found to take longest, what they are told, and how many rows of code they may go through:
+# less than a third of those they went through when each round was gone by itself.
+LONG_ASKS = [
+    (lambda: same_from(House(2, [1]), House(2, [1]), 10 ** 190, by=600),
+     int("1000000000372259632052516551820394934643232018833789841355098991255001584473271887084189039383785981"
+         "7019105416283789191952131972038706101444804846143386695597451349185455004175517585156078998"), 60000),
+    (lambda: same_from(House(4, [1] * 3), House(4, [1] * 3), 10 ** 190, by=300),
+     int("1000000000095625260793783687919567743730487942099626759205603197921957762493895032989995162957138845"
+         "1054369553424990600877931445917109334061196995938128779041375373394080882973249912140289056"), 40000),
+    (lambda: same_from(House(30, [1] * 29), House(30, [1] * 29), 10 ** 199, by=130),
+     int("1000000063938959657746955731871889193287750464652587063545274096894223103448275862068965517241379310"
+         "3448275862068965517241379310344827586206896551724137931034482758620689655172413793103448275862068834"), 30000),
+    (lambda: same_nth(House(2, [1]), House(2, [2]), 10 ** 18, by=300),
+     2350891689695508441598097089620775037335673920708149101, 20000),
+    (lambda: same_nth(House(30, [10 ** 59] * 29), House(30, [1] * 28 + [9]), 10 ** 18, by=300), None, 20000),
+    (lambda: same_many(House(30, [1] * 29), House(30, [1] * 29), 10 ** 200 - 1), 10 ** 200 - 2, 20000),
+]
+
+# Of these ks so many exponents are gone one by one.
+EXPONENTS = {2: 50, 3: 32, 4: 24, 10: 12, 30: 9}
 
 
 def pairs():
@@ -48,6 +71,60 @@ def far_pairs():
             for by in (0, 1, chance.randrange(2, 400), chance.randrange(10 ** 60), FAR):
                 rows.append((one, House(k, near), by))
                 rows.append((House(k, near), one, by))
+    return rows
+
+
+def near_pairs():
+    """Pairs of houses whose reaches differ by little or not at all, and moves that come near the gaps between them."""
+    chance = random.Random(205)
+    for k in EXPONENTS:
+        for rise in (0, 0, 1, -1, 2, -2, 3, -5):
+            for by in (0, chance.randrange(1, 9), chance.randrange(9, 45)):
+                one = [chance.choice([1, 2, 5, 20]) for _ in range(k - 1)]
+                other = one[::-1]
+                other[chance.randrange(k - 1)] += abs(rise)
+                if rise < 0:
+                    one, other = other, one
+                yield House(k, one), House(k, other), by
+
+
+def counts_by_rounds(one, other, by, exponents):
+    """(number, met, more) for each exponent: of the places that say less than the number, which is k to it.
+
+    Places are counted round by round, the numbers behind a round's first one by how often k divides them.
+    """
+    k = one.base()
+    met = more = 0
+    for exponent in range(exponents):
+        for sign in range(1, k):
+            number = sign * k ** exponent
+            first, last = one.first_place(number), one.last_place(number)
+            other_first, other_last = other.first_place(number) - by, other.last_place(number) - by
+            met += max(0, min(last, other_last) - max(first, other_first) + 1)
+            more += max(0, min(last, other_first - 1) - first + 1)
+            gap = other_last - last
+            for noughts in range(exponent):
+                numbers = k ** (exponent - noughts) - k ** (exponent - noughts - 1)
+                met += numbers * max(0, noughts + 1 - abs(gap))
+                more += numbers * min(noughts + 1, max(0, gap))
+        yield k ** (exponent + 1), met, more
+
+
+def rows_gone(ask):
+    """How many rows of code are gone through while it is asked."""
+    rows = 0
+
+    def look(frame, event, _):
+        nonlocal rows
+        rows += event == "line"
+        return look
+
+    before = sys.gettrace()
+    sys.settrace(look)
+    try:
+        ask()
+    finally:
+        sys.settrace(before)
     return rows
 
 
@@ -149,6 +226,68 @@ class FarTest(unittest.TestCase):
         self.assertIsNone(same_nth(one, House(2, [10 ** 300]), FAR))
         self.assertEqual(same_from(one, House(2, [10 ** 300]), FAR), FAR)
         self.assertIsNone(same_from(House(2, [END]), House(2, [END + 1]), END))
+
+
+class LongTest(unittest.TestCase):
+    def test_the_asks_that_took_longest(self):
+        for ask, told, _ in LONG_ASKS:
+            self.assertEqual(ask(), told)
+
+    def test_they_go_through_few_rows(self):
+        for ask, _, most in LONG_ASKS:
+            self.assertLess(rows_gone(ask), most)
+
+    def test_what_they_are_told_is_so(self):
+        for k, place, by in ((2, 10 ** 190, 600), (4, 10 ** 190, 300), (30, 10 ** 199, 130)):
+            one, other = House(k, [1] * (k - 1)), House(k, [1] * (k - 1))
+            found = same_from(one, other, place, by=by)
+            self.assertEqual(one.said(found), other.said(found + by))
+            self.assertNotEqual(one.said(found - 1), other.said(found - 1 + by))
+            many = same_many(one, other, place, by=by)
+            self.assertEqual(same_many(one, other, found, by=by), many)
+            self.assertEqual(same_many(one, other, found + 1, by=by), many + 1)
+            self.assertEqual(same_nth(one, other, many, by=by), found)
+
+    def test_some_that_meet_just_below_the_end(self):
+        # Where the gap is so wide none but first numbers meet, and those of the greatest exponents alone.
+        for k, many, by, exponents in ((30, 10, 140, range(131, 136)), (10, 9, 205, range(197, 200)),
+                                       (7, 5, 240, range(236, 237)), (2, 4, 666, range(663, 664))):
+            one, other = House(k, [many] * (k - 1)), House(k, [many] * (k - 1))
+            told = []
+            place = same_from(one, other, 1, by=by)
+            while place is not None:
+                told.append(place)
+                place = same_from(one, other, place + 1, by=by)
+            firsts = [sign * k ** exponent for exponent in exponents for sign in range(1, k)]
+            places = [one.first_place(number) + at for number in firsts for at in range(one.times(number) - by)]
+            self.assertEqual(told, [place for place in places if place < END])
+            self.assertTrue(told)
+            self.assertEqual(told, [same_nth(one, other, at, by=by) for at in range(len(told))])
+            self.assertIsNone(same_nth(one, other, len(told), by=by))
+
+    def test_counts_against_going_from_round_to_round(self):
+        for one, other, by in near_pairs():
+            for number, met, more in counts_by_rounds(one, other, by, EXPONENTS[one.base()]):
+                below = one.first_place(number)
+                self.assertEqual(same_many(one, other, below, by=by), met)
+                self.assertEqual(more_many(one, other, below, by=by), more)
+
+    def test_the_next_and_the_nth_near_where_rounds_begin(self):
+        chance = random.Random(206)
+        for one, other, by in list(near_pairs())[::2]:
+            k = one.base()
+            for _ in range(4):
+                number = chance.randrange(1, k) * k ** chance.randrange(2 * EXPONENTS[k])
+                for place in {one.first_place(number), one.last_place(number) + chance.randrange(-2, 3)}:
+                    place = max(place, 1)
+                    many = same_many(one, other, place, by=by)
+                    found = same_from(one, other, place, by=by)
+                    self.assertEqual(same_nth(one, other, many, by=by), found)
+                    if found is None:
+                        self.assertEqual(same_many(one, other, END, by=by), many)
+                        continue
+                    self.assertEqual(one.said(found), other.said(found + by))
+                    self.assertEqual(same_many(one, other, found, by=by), many)
 
 
 class LastTest(unittest.TestCase):

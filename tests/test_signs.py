@@ -3,7 +3,7 @@
 import random
 import unittest
 
-from askback.signs import exponent_of, first_sign, heap_of, noughts_of, signs_of
+from askback.signs import exponent_of, first_sign, heap_of, noughts_of, power_of, signs_of
 from tests.plain import FAR
 
 BASES = range(2, 31)
@@ -67,6 +67,23 @@ class SignsTest(unittest.TestCase):
                 self.assertEqual(noughts_of(power, base), exponent)
                 self.assertEqual(noughts_of(power + 1, base), 0)
                 self.assertEqual(noughts_of(power - 1, base), 0)
+
+    def test_of_great_powers_and_numbers_near_the_first_great_one(self):
+        for base in BASES:
+            for exponent in (61, 64, 127, 128, 129, 400, 663):
+                for sign in (1, base - 1):
+                    power = sign * base ** exponent
+                    self.assertEqual((exponent_of(power, base), first_sign(power, base)), (exponent, sign))
+                    last = power + base ** exponent - 1
+                    self.assertEqual((exponent_of(last, base), first_sign(last, base)), (exponent, sign))
+            for number in (10 ** 18 - 1, 10 ** 18, 10 ** 18 + 1, 2 ** 60, 2 ** 64, 10 ** 20):
+                signs = signs_by_dividing(number, base)
+                self.assertEqual((exponent_of(number, base), first_sign(number, base)), (len(signs) - 1, signs[0]))
+
+    def test_powers(self):
+        for base in BASES:
+            for exponent in [*range(40), 135, 256, 664]:
+                self.assertEqual(power_of(base, exponent), base ** exponent)
 
     def test_noughts_against_plain_dividing(self):
         for base in BASES:
